@@ -205,11 +205,13 @@ func (g *generator) strangeSyntax(depth int) impl.Syntax {
 	return s
 }
 
+var spacedParentheses = strings.NewReplacer("(", " ( ", ")", " ) ")
+
 // mustReadForm reads text as FormatSyntax writes it, with strings that contain
 // no spaces and parentheses.
 func mustReadForm(t *testing.T, source string) impl.Syntax {
 	t.Helper()
-	words := strings.Fields(strings.NewReplacer("(", " ( ", ")", " ) ").Replace(source))
+	words := strings.Fields(spacedParentheses.Replace(source))
 	open := []impl.Syntax{{}}
 	for _, word := range words {
 		switch last := len(open) - 1; {
