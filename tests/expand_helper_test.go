@@ -352,19 +352,9 @@ func (m *secondExpander) special(word string, s impl.Syntax) impl.Core {
 }
 
 func joined(terms []impl.Core) impl.Core {
-	var kids []impl.Core
-	for _, c := range terms {
-		if c.Kind == impl.CoreSequence {
-			kids = append(kids, c.Kids...)
-		} else {
-			kids = append(kids, c)
-		}
-	}
-	stopIf(len(kids) > 60, impl.ExpandLarge)
-	if len(kids) == 1 {
-		return kids[0]
-	}
-	return node(impl.CoreSequence, kids...)
+	c := sequence(terms...)
+	stopIf(len(c.Kids) > 60, impl.ExpandLarge)
+	return c
 }
 
 func (m *secondExpander) enter(params []impl.Syntax, most int, forms []impl.Syntax) ([]int, []impl.Syntax) {

@@ -65,7 +65,8 @@ func tree(nodes int) impl.Syntax {
 	return s
 }
 
-// A term has as many nodes as expressions were counted, at most.
+// Without definitions, a term has as many nodes as expressions are counted, at
+// most.
 func TestExpandNodes(t *testing.T) {
 	x := expanderOf(t, 0, usualMacros+"(define-syntax both (syntax-rules () ((_ a) (cons a a)) ((_ a b) (cons a (cons b a)))))")
 	for _, c := range []struct {
@@ -85,8 +86,9 @@ func TestExpandNodes(t *testing.T) {
 	}
 }
 
-// Terms of MaxCore nodes: with definitions, a body has as many nodes as are
-// counted.
+// Terms of MaxCore nodes: with definitions of variables, a body has as many
+// nodes as are counted, and with procedures that have definitions it has more,
+// so that the term is too large although the count is not.
 func TestExpandBodyNodes(t *testing.T) {
 	x := expanderOf(t, 0, usualMacros)
 	define := func(name string, nodes int) impl.Syntax {
@@ -104,6 +106,17 @@ func TestExpandBodyNodes(t *testing.T) {
 			t.Errorf("a body of %d nodes has the code %d, not %d", impl.SizeOfCore(term), code, c.code)
 		}
 	}
+	for extra, wanted := range []int{impl.ExpandOk, impl.ExpandLarge} {
+		var list []impl.Syntax
+		for _, name := range strings.Fields(symbols(57)) {
+			list = append(list, mustReadForm(t, "(define ("+name+") (define c 1) 2)"))
+		}
+		list = append(list, define("a", 1000), define("b", 1654+extra), plain(number(1)))
+		term, _, code := checkBody(t, x, list)
+		if code != wanted || code == impl.ExpandOk && impl.SizeOfCore(term) != 3000 {
+			t.Errorf("a body with procedures and %d nodes has the code %d, not %d", impl.SizeOfCore(term), code, wanted)
+		}
+	}
 }
 
 // Where the scopes end, each form takes as many as the chapter says.
@@ -118,7 +131,7 @@ func TestExpandNearLastScope(t *testing.T) {
 		{"(reset 1)", 99996, 99999, 8}, {"(lambda () 1)", 99993, 99999, 8}, {"(lambda (a) a)", 99993, 99999, 8}, {"(shift k k)", 99993, 99999, 8}, {"(local (a) a)", 99996, 99999, 8}, {"(let-syntax () 1)", 99993, 99999, 8}, {"(let-syntax ((m (syntax-rules () ((_) 1)))) (m))", 99990, 99999, 8},
 		{"(and 1)", 99995, 99999, 8}, {"(and)", 99995, 99999, 8}, {"(and (and))", 99992, 99999, 8}, {"(reset (reset 1))", 99993, 99999, 8}, {"(reset (and 1))", 99993, 99999, 8},
 		// Other errors are met before or behind the scopes.
-		{"(reset)", -1, 99999, 1}, {"(lambda ())", -1, 99999, 1}, {"(lambda (5) 1)", -1, 99999, 1}, {"(lambda (a b c d e f g h i) 1)", -1, 99999, 8}, {"(lambda (a a) 1)", -1, 99996, 4}, {"(lambda () zz)", -1, 99993, 2}, {"(shift 5 1)", -1, 99999, 1}, {"(local () 1)", -1, 99999, 1}, {"(local (a) zz)", -1, 99996, 2}, {"(let-syntax (m) 1)", -1, 99996, 1}, {"(let-syntax m 1)", -1, 99999, 1}, {"(let-syntax (m))", -1, 99999, 1}, {"(let)", -1, 99995, 6}, {"(zz (let))", -1, 99999, 2}, {"((let) zz)", -1, 99995, 6}, {"(reset (begin))", -1, 99996, 1}, {"(begin (reset 1) zz)", -1, 99996, 2}, {"(define)", -1, 99999, 5},
+		{"(reset)", -1, 99999, 1}, {"(lambda ())", -1, 99999, 1}, {"(lambda (5) 1)", -1, 99999, 1}, {"(lambda (a b c d e f g h i) 1)", -1, 99999, 8}, {"(lambda (a a) 1)", -1, 99996, 4}, {"(lambda () zz)", -1, 99993, 2}, {"(shift 5 1)", -1, 99999, 1}, {"(shift k)", -1, 99999, 1}, {"(local (a))", -1, 99999, 1}, {"(set! glob)", -1, 99999, 1}, {"(local () 1)", -1, 99999, 1}, {"(local (a) zz)", -1, 99996, 2}, {"(let-syntax (m) 1)", -1, 99996, 1}, {"(let-syntax m 1)", -1, 99999, 1}, {"(let-syntax (m))", -1, 99999, 1}, {"(let)", -1, 99995, 6}, {"(zz (let))", -1, 99999, 2}, {"((let) zz)", -1, 99995, 6}, {"(reset (begin))", -1, 99996, 1}, {"(begin (reset 1) zz)", -1, 99996, 2}, {"(define)", -1, 99999, 5},
 	} {
 		for scope := 99980; scope <= 99999; scope++ {
 			x.Scope = scope

@@ -159,6 +159,12 @@ func strangeForms() []impl.Syntax {
 		{Kind: impl.DatumSymbol, Text: "glob", Items: []impl.Syntax{and}}, {Kind: impl.DatumNumber, Items: []impl.Syntax{and}}, {Kind: 9, Items: []impl.Syntax{and}}, {Number: 1, Items: []impl.Syntax{and}}, {Text: "x", Items: []impl.Syntax{and}}, {Scopes: []int{1}, Items: []impl.Syntax{and}},
 		{Kind: impl.DatumNumber, Scopes: []int{1}}, {Kind: impl.DatumNumber, Number: impl.MaxNumber + 1}, {Kind: impl.DatumBoolean, Number: 2}, {Kind: impl.DatumString, Text: "\n"}, {Kind: -1}, {Kind: 5}, {Kind: leastInt}, {Number: 7},
 	}
+	// More nodes than can be visited.
+	branching := form(and)
+	for range 60 {
+		branching = form(and, branching, branching)
+	}
+	result = append(result, branching)
 	for _, id := range slices.Concat(noIdentifiers()[10:], []impl.Syntax{{Kind: impl.DatumNumber, Text: "and"}}) {
 		result = append(result, form(and, id), form(id), id)
 	}

@@ -45,7 +45,7 @@ func goodExpanders(t *testing.T) []impl.Expander {
 	macro := mustReadRules(t, "l{7}", "(_{6} x{5}) (x{5} m{4})")
 	rules := []impl.Rules{macro, mustReadRules(t, "", "(_) 1")}
 	return []impl.Expander{
-		{}, impl.NewExpander(), usual, {Scope: 99999}, {Variable: 99999}, {Steps: 200}, {Scope: 1, Variable: 1, Steps: 1}, {Scope: 99998, Variable: 99998, Steps: 199},
+		{}, {Bindings: []impl.Binding{}, Macros: []impl.Rules{}}, impl.NewExpander(), usual, {Scope: 99999}, {Variable: 99999}, {Steps: 200}, {Scope: 1, Variable: 1, Steps: 1}, {Scope: 99998, Variable: 99998, Steps: 199},
 		{Macros: manyMacros(t, 200)}, {Bindings: manyBindings(1000), Variable: 999}, {Bindings: manySets(1000, "x"), Scope: 50000, Variable: 7},
 		{Macros: rules, Scope: 7}, {Macros: []impl.Rules{macro}, Scope: 99999}, {Macros: []impl.Rules{mustReadRules(t, "", "(_ x{99999}) x{99999}")}, Scope: 99999},
 		{Bindings: []impl.Binding{variable(5, "x", 7), variable(0, "x"), variable(5, "y")}, Scope: 7, Variable: 5},
