@@ -368,8 +368,13 @@ func (m *secondExpander) enter(params []impl.Syntax, most int, forms []impl.Synt
 	return variables, added(forms, scope)
 }
 
+// added adds a scope to each form; together they may be no valid list.
 func added(forms []impl.Syntax, scope int) []impl.Syntax {
-	return impl.AddScope(form(forms...), scope).Items
+	var result []impl.Syntax
+	for _, s := range forms {
+		result = append(result, impl.AddScope(s, scope))
+	}
+	return result
 }
 
 func (m *secondExpander) procedure(params, body []impl.Syntax) impl.Core {
@@ -399,14 +404,26 @@ func (m *secondExpander) rulesAt(s impl.Syntax) impl.Rules {
 }
 
 func (m *secondExpander) body(forms []impl.Syntax) impl.Core {
-	scope := m.fresh(impl.ScopeBinding)
-	var queue []impl.Syntax
-	for _, s := range forms {
-		queue = append(queue, impl.AddScope(s, scope))
+	kept := m.keep(added(forms, m.fresh(impl.ScopeBinding)))
+	stopIf(len(kept) == 0 || kept[len(kept)-1].defined != 0, impl.ExpandSyntax)
+	kids := m.keptTerms(kept)
+	variables := definedIn(kept)
+	if len(variables) == 0 {
+		return joined(kids)
 	}
-	var variables []int
-	var kept []impl.Syntax
-	var defined []int
+	stopIf(len(variables) > 60 || len(kids) > 60, impl.ExpandLarge)
+	return binder(impl.CoreLocal, variables, kids...)
+}
+
+// A keptForm is kept for later, with the variable that it defines, or 0.
+type keptForm struct {
+	impl.Syntax
+	defined int
+}
+
+// keep looks at the forms of a body in order.
+func (m *secondExpander) keep(queue []impl.Syntax) []keptForm {
+	var kept []keptForm
 	for len(queue) > 0 {
 		s := queue[0]
 		queue = queue[1:]
@@ -418,30 +435,38 @@ func (m *secondExpander) body(forms []impl.Syntax) impl.Core {
 		case kind == impl.BindingForm && formWords[n] == "begin":
 			queue = slices.Concat(s.Items[1:], queue)
 		case kind == impl.BindingForm && formWords[n] == "define":
-			variables = append(variables, m.variable(impl.StripUses(definedName(s))))
-			kept, defined = append(kept, s), append(defined, m.Variable)
+			kept = append(kept, keptForm{s, m.variable(impl.StripUses(definedName(s)))})
 		case kind == impl.BindingForm && formWords[n] == "define-syntax":
 			definition := form(s.Items[1:]...)
 			r := m.rulesAt(definition)
 			m.macro(impl.StripUses(definition.Items[0]), r)
 		default:
-			kept, defined = append(kept, s), append(defined, 0)
+			kept = append(kept, keptForm{s, 0})
 		}
 	}
-	stopIf(len(kept) == 0 || defined[len(kept)-1] != 0, impl.ExpandSyntax)
-	kids := make([]impl.Core, len(kept))
-	for i, s := range kept {
-		if defined[i] == 0 {
-			kids[i] = m.expression(s)
+	return kept
+}
+
+func definedIn(kept []keptForm) []int {
+	var variables []int
+	for _, k := range kept {
+		if k.defined != 0 {
+			variables = append(variables, k.defined)
+		}
+	}
+	return variables
+}
+
+func (m *secondExpander) keptTerms(kept []keptForm) []impl.Core {
+	var kids []impl.Core
+	for _, k := range kept {
+		if k.defined == 0 {
+			kids = append(kids, m.expression(k.Syntax))
 		} else {
-			kids[i] = assignment(defined[i], m.definedValue(s))
+			kids = append(kids, assignment(k.defined, m.definedValue(k.Syntax)))
 		}
 	}
-	if len(variables) == 0 {
-		return joined(kids)
-	}
-	stopIf(len(variables) > 60 || len(kids) > 60, impl.ExpandLarge)
-	return binder(impl.CoreLocal, variables, kids...)
+	return kids
 }
 
 func definedName(s impl.Syntax) impl.Syntax {
